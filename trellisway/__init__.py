@@ -1,0 +1,1 @@
+"""Trellisway: words sent longer, heard badly, told again."""
