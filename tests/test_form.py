@@ -13,6 +13,16 @@ OWN_NAMES = set(
     " ord repr any all divmod Exception ValueError TypeError KeyError IndexError LookupError ZeroDivisionError"
     " ArithmeticError OverflowError RuntimeError NotImplementedError AttributeError StopIteration".split()
 )
+OWN_METHODS = {"told", "cost"}
+PYTHONS_METHODS = set(
+    "append clear copy count endswith extend find get index insert isalnum isalpha isdigit islower isspace isupper"
+    " items join keys ljust lower lstrip partition pop remove replace reverse rfind rjust rpartition rsplit rstrip setdefault"
+    " split splitlines startswith strip update upper values zfill bit_length".split()
+)
+WALKED = set("zip enumerate reversed range".split())
+WALKERS = set("list tuple dict sorted sum any all enumerate zip".split())
+KEYWORDS = {"sorted": {"key", "reverse"}, "min": {"key", "default"}, "max": {"key", "default"}, "sum": {"start"},
+            "enumerate": {"start"}, "zip": {"strict"}}
 DUNDERS = {"__init__", "__eq__", "__repr__", "__str__", "__len__"}
 UNUSED = set("register mro elements open input version_info with_traceback add_note format format_map".split())
 WORDS = re.compile(
@@ -98,6 +108,65 @@ def power_faults(node):
         yield "L27 a power that is not written"
 
 
+def call_faults(node):
+    if isinstance(node.func, ast.Attribute) and node.func.attr not in PYTHONS_METHODS | OWN_METHODS:
+        yield f"L25 {node.func.attr}"
+    name = node.func.id if isinstance(node.func, ast.Name) else ""
+    allowed = KEYWORDS.get(name, set())
+    if name in OWN_NAMES and not all(keyword.arg in allowed for keyword in node.keywords):
+        yield f"L22 a keyword at {name}"
+
+
+def is_walked(node):
+    return isinstance(node, ast.Call) and isinstance(node.func, ast.Name) and node.func.id in WALKED
+
+
+def places_to_walk(node):
+    if isinstance(node, (ast.For, ast.comprehension)):
+        yield node.iter
+    if isinstance(node, ast.Call) and isinstance(node.func, ast.Name) and node.args:
+        if node.func.id in WALKERS or (node.func.id in ("min", "max") and len(node.args) == 1):
+            yield node.args[0]
+
+
+def walk_faults(tree):
+    walked_on_the_spot = {id(place) for node in ast.walk(tree) for place in places_to_walk(node)}
+    for node in ast.walk(tree):
+        if is_walked(node) and id(node) not in walked_on_the_spot:
+            yield f"L23 {node.func.id} is kept, row {node.lineno}"
+
+
+def taken_names(tree):
+    for node in tree.body:
+        if isinstance(node, ast.ClassDef):
+            yield node.name
+        elif isinstance(node, ast.ImportFrom):
+            yield from (part.asname or part.name for part in node.names)
+
+
+def local_faults(tree):
+    taken = set(taken_names(tree))
+    for node in ast.walk(tree):
+        name = node.arg if isinstance(node, ast.arg) else None
+        if isinstance(node, ast.Name) and isinstance(node.ctx, ast.Store):
+            name = node.id
+        if name in taken:
+            yield f"L15 {name} is a class or an import of the file, row {node.lineno}"
+
+
+def docstring(tree):
+    first = tree.body[0] if tree.body else None
+    return first if isinstance(first, ast.Expr) and isinstance(first.value, ast.Constant) else None
+
+
+def tree_faults(tree):
+    yield from walk_faults(tree)
+    yield from local_faults(tree)
+    for node in ast.walk(tree):
+        if isinstance(node, ast.Expr) and not isinstance(node.value, ast.Call) and node is not docstring(tree):
+            yield f"L6 a value by itself, row {node.lineno}"
+
+
 def node_faults(node):
     if type(node).__name__ not in NODES:
         yield f"L6 or L7 {type(node).__name__}"
@@ -115,6 +184,8 @@ def node_faults(node):
         yield f"L8 {node.id}"
     elif isinstance(node, ast.ImportFrom) and (node.level or not (node.module or "").startswith("trellisway.")):
         yield f"L2 {node.module}"
+    elif isinstance(node, ast.Call):
+        yield from call_faults(node)
     elif isinstance(node, ast.ExceptHandler):
         yield from handler_faults(node)
     elif isinstance(node, ast.Constant):
@@ -134,8 +205,9 @@ def node_faults(node):
 
 
 def faults(text):
-    found = list(sign_faults(text))
-    for node in ast.walk(ast.parse(text)):
+    tree = ast.parse(text)
+    found = list(sign_faults(text)) + list(tree_faults(tree))
+    for node in ast.walk(tree):
         found += [f"{fault}, row {getattr(node, 'lineno', 0)}" for fault in node_faults(node)]
     return found
 
@@ -159,6 +231,11 @@ class Form(unittest.TestCase):
             "def f(list):\n    pass", "x = type(y)", "def run():\n" + "    pass\n" * 40, "x = '\u00e9'",
             "try:\n    f()\nexcept Exception:\n    pass", "class A:\n    x = 1", "_x = 1", "x = getattr(y, 'z')",
             "with f() as x:\n    pass", "x = [y for y in z for z in w]", "# an enum", "x = y.format(z)",
+            "def f():\n    xs = range(3)\n    return xs", "def f(xs):\n    return [x for x in reversed(range(3))]",
+            "def f(xs):\n    return list(zip(xs, range(3)))", "def f(xs):\n    xs.sort()",
+            "def f(xs):\n    return list(xs, key=1)", "def f():\n    'what it does'\n    return 1",
+            "from trellisway.signs import Gap\n\n\ndef f(Gap):\n    pass",
+            "from trellisway.schemes import rooms\n\n\ndef f(xs):\n    return [rooms for rooms in xs]",
         )
         for text in spoiled:
             with self.subTest(text=text):

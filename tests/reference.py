@@ -1,0 +1,148 @@
+"""What the document asks, worked out another way than the program does: the tests hold the program against it."""
+
+import itertools
+import random
+
+ENDINGS = ("open", "ended", "ring")
+REACHES = (0, 1, 2, 3, 4)
+SIXTY = int("9" * 60)
+SIX_ROWS = ((1, 1, 1, 1), (0, 0, 0, 1), (0, 1, 1, 0), (1, 0, 0, 0), (0, 0, 0, 0), (0, 1, 0, 1))
+
+
+def shapes_of(reach):
+    """Taps and rows: one and several of each, rows of unlike weight, rows that send nothing."""
+    end = 2 << reach
+    return (
+        ((end - 1,), ((1,),)),
+        ((end - 1, 1 + end // 2), ((1, 1), (1, 0))),
+        ((1, end // 2, end - 1), ((1, 0, 1), (0, 0, 0), (0, 1, 0))),
+        ((end - 1, end // 3, 1, 0), SIX_ROWS),
+        ((end - 1, 1), ((0, 0),)),
+    )
+
+
+def schemes(reaches=REACHES, endings=ENDINGS):
+    return [(reach, *shape, ending) for reach in reaches for shape in shapes_of(reach) for ending in endings]
+
+
+def least_size(scheme):
+    return scheme[0] if scheme[3] == "ring" else 0
+
+
+def sizes_of(scheme, end):
+    return range(least_size(scheme), max(end, least_size(scheme) + 2))
+
+
+def all_words(size):
+    return [list(bits) for bits in itertools.product((0, 1), repeat=size)]
+
+
+def long_words(scheme, seed):
+    chance = random.Random(seed)
+    sizes = (least_size(scheme), 9, 17, 31, 59, 60)
+    return [[0] * 60, [1] * 60] + [[chance.randrange(2) for _ in range(size)] for size in sizes]
+
+
+def done(scheme, word):
+    return word + [0] * (scheme[0] if scheme[3] == "ended" else 0)
+
+
+def ahead_of_word(scheme, word):
+    reach = scheme[0]
+    return word[len(word) - reach :] if scheme[3] == "ring" else [0] * reach
+
+
+def number_of(bits):
+    return int("0" + "".join(map(str, bits)), 2)
+
+
+def way(scheme, word):
+    line = ahead_of_word(scheme, word) + done(scheme, word)
+    return [number_of(line[place : place + scheme[0]]) for place in range(len(done(scheme, word)) + 1)]
+
+
+def sent_with_steps(scheme, word):
+    """(step's number, sign) for each sent sign: a tap's sign sums the bits as far back as the tap's powers reach."""
+    reach, taps, rows, _ = scheme
+    line = ahead_of_word(scheme, word) + done(scheme, word)
+    found = []
+    for number in range(len(done(scheme, word))):
+        for tap, chosen in zip(taps, rows[number % len(rows)]):
+            backs = [back for back in range(reach + 1) if (tap >> back) % 2 == 1]
+            if chosen:
+                found.append((number, sum(line[number + reach - back] for back in backs) % 2))
+    return found
+
+
+def sent_count(scheme, size):
+    return len(sent_with_steps(scheme, [0] * size))
+
+
+def price(told, bit):
+    if told[0] == "clear":
+        return int(told[1] != bit)
+    return 0 if told[0] == "gap" else told[1 + bit]
+
+
+def price_of_word(scheme, word, heard):
+    signs = [sign for _, sign in sent_with_steps(scheme, word)]
+    assert len(signs) == len(heard)
+    return sum(price(told, sign) for told, sign in zip(heard, signs))
+
+
+def ranked(scheme, size, heard):
+    return sorted((price_of_word(scheme, word, heard), word) for word in all_words(size))
+
+
+def hearings(count, seed):
+    """Lists of so many heard signs: clear, gaps, soft ones below 0 and of sixty figures, mixed, many equal costs."""
+    chance = random.Random(seed)
+
+    def soft(end):
+        return ("soft", chance.randint(-end, end), chance.randint(-end, end))
+
+    def clear():
+        return ("clear", chance.randrange(2))
+
+    yield [("clear", 0)] * count
+    yield [("gap",)] * count
+    yield [clear() for _ in range(count)]
+    yield [soft(2) for _ in range(count)]
+    yield [soft(SIXTY) for _ in range(count)]
+    yield [("soft", -SIXTY, SIXTY) if chance.randrange(2) else ("soft", SIXTY, -SIXTY) for _ in range(count)]
+    yield [chance.choice((clear(), ("gap",), soft(1), soft(SIXTY))) for _ in range(count)]
+
+
+def moves_by_hand(scheme, number, pieces, room, bit):
+    """(next room, cost) of one step, of what is heard of it."""
+    reach, taps, rows, _ = scheme
+    window = 2 * room + bit
+    signs = [bin(window & tap).count("1") % 2 for tap in taps]
+    chosen = [sign for sign, there in zip(signs, rows[number % len(rows)]) if there]
+    return window % (1 << reach), sum(price(told, sign) for told, sign in zip(pieces[number], chosen))
+
+
+def pieces_of(scheme, size, heard):
+    steps = [number for number, _ in sent_with_steps(scheme, [0] * size)]
+    count = len(done(scheme, [0] * size))
+    return [[told for told, number in zip(heard, steps) if number == one] for one in range(count)]
+
+
+def next_words(scheme, size, heard, most):
+    """The first words by their cost, from the end on: for each room the cheapest ends of ways, as many as asked for."""
+    pieces = pieces_of(scheme, size, heard)
+    rooms = range(1 << scheme[0])
+    found = []
+    for start in rooms if scheme[3] == "ring" else [0]:
+        ends = [[(0, [])] if scheme[3] == "open" or room == start else [] for room in rooms]
+        for number in reversed(range(len(pieces))):
+            ends_before = []
+            for room in rooms:
+                longer = []
+                for bit in (0, 1) if number < size else (0,):
+                    led, paid = moves_by_hand(scheme, number, pieces, room, bit)
+                    longer += [(paid + cost, [bit] + bits) for cost, bits in ends[led]]
+                ends_before.append(sorted(longer)[:most])
+            ends = ends_before
+        found += [(cost, bits[:size]) for cost, bits in ends[start]]
+    return sorted(found)[:most]
