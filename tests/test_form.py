@@ -16,8 +16,8 @@ OWN_NAMES = set(
 OWN_METHODS = {"told", "cost"}
 PYTHONS_METHODS = set(
     "append clear copy count endswith extend find get index insert isalnum isalpha isdigit islower isspace isupper"
-    " items join keys ljust lower lstrip partition pop remove replace reverse rfind rjust rpartition rsplit rstrip setdefault"
-    " split splitlines startswith strip update upper values zfill bit_length".split()
+    " items join keys ljust lower lstrip partition pop remove replace reverse rfind rjust rpartition rsplit rstrip"
+    " setdefault split splitlines startswith strip update upper values zfill bit_length".split()
 )
 WALKED = set("zip enumerate reversed range".split())
 WALKERS = set("list tuple dict sorted sum any all enumerate zip".split())
