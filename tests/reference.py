@@ -3,6 +3,8 @@
 import itertools
 import random
 
+from trellisway.errors import NoPlace, NoScheme, NoSigns, NoText, NoWord, WayError
+
 ENDINGS = ("open", "ended", "ring")
 REACHES = (0, 1, 2, 3, 4)
 SIXTY = int("9" * 60)
@@ -128,6 +130,21 @@ def pieces_of(scheme, size, heard):
     return [[told for told, number in zip(heard, steps) if number == one] for one in range(count)]
 
 
+def cheapest_ends(scheme, size, pieces, ends, most):
+    """From each room the cheapest ways through all steps, as many as asked for, made from the end on."""
+    rooms = range(1 << scheme[0])
+    for number in reversed(range(len(pieces))):
+        ends_before = []
+        for room in rooms:
+            longer = []
+            for bit in (0, 1) if number < size else (0,):
+                led, paid = moves_by_hand(scheme, number, pieces, room, bit)
+                longer += [(paid + cost, [bit] + bits) for cost, bits in ends[led]]
+            ends_before.append(sorted(longer)[:most])
+        ends = ends_before
+    return ends
+
+
 def next_words(scheme, size, heard, most):
     """The first words by their cost, from the end on: for each room the cheapest ends of ways, as many as asked for."""
     pieces = pieces_of(scheme, size, heard)
@@ -135,14 +152,114 @@ def next_words(scheme, size, heard, most):
     found = []
     for start in rooms if scheme[3] == "ring" else [0]:
         ends = [[(0, [])] if scheme[3] == "open" or room == start else [] for room in rooms]
-        for number in reversed(range(len(pieces))):
-            ends_before = []
-            for room in rooms:
-                longer = []
-                for bit in (0, 1) if number < size else (0,):
-                    led, paid = moves_by_hand(scheme, number, pieces, room, bit)
-                    longer += [(paid + cost, [bit] + bits) for cost, bits in ends[led]]
-                ends_before.append(sorted(longer)[:most])
-            ends = ends_before
-        found += [(cost, bits[:size]) for cost, bits in ends[start]]
+        found += [(cost, bits[:size]) for cost, bits in cheapest_ends(scheme, size, pieces, ends, most)[start]]
     return sorted(found)[:most]
+
+
+def opened(scheme):
+    """A beginning is sent as a word of an open scheme."""
+    return scheme[:3] + ("open",)
+
+
+def kept_by_all_ways(scheme, steps, heard):
+    found = [None] * (1 << scheme[0])
+    for cost, word in reversed(ranked(opened(scheme), steps, heard)):
+        found[way(opened(scheme), word)[-1]] = (cost, word)
+    return found
+
+
+def kept_from_the_end(scheme, steps, heard):
+    pieces = pieces_of(opened(scheme), steps, heard)
+    rooms = range(1 << scheme[0])
+    found = []
+    for end in rooms:
+        ends = [[(0, [])] if room == end else [] for room in rooms]
+        found += cheapest_ends(scheme, steps, pieces, ends, 1)[0] or [None]
+    return found
+
+
+def common_beginning(words):
+    """The longest beginning that all of these words of one length have."""
+    size = len(words[0])
+    return [words[0][:end] for end in range(size + 1) if all(word[:end] == words[0][:end] for word in words)][-1]
+
+
+def distance_by_pairs(scheme, size):
+    signs = {tuple(word): [sign for _, sign in sent_with_steps(scheme, word)] for word in all_words(size)}
+    pairs = itertools.combinations(signs.values(), 2)
+    least = min(sum(a != b for a, b in zip(one, other)) for one, other in pairs)
+    return least, next(list(word) for word in signs if any(word) and sum(signs[word]) == least)
+
+
+def random_schemes(seed, rounds):
+    """For each reach and each number of rows so many schemes, of one to four taps, some of them 0."""
+    chance = random.Random(seed)
+    for reach in REACHES:
+        for count in range(1, 7):
+            for _ in range(rounds):
+                taps = tuple(chance.randrange(2 << reach) for _ in range(chance.randint(1, 4)))
+                bits = chance.choice(((0, 1), (0, 1, 1, 1), (1,)))
+                rows = tuple(tuple(chance.choice(bits) for _ in taps) for _ in range(count))
+                yield reach, taps, rows, chance.choice(ENDINGS)
+
+
+def nodes_of(scheme):
+    return [(phase, room) for phase in range(len(scheme[2])) for room in range(1, 1 << scheme[0])]
+
+
+def bits_of_room(scheme, room):
+    return [room >> place & 1 for place in reversed(range(scheme[0]))]
+
+
+def walk(scheme, node, bits):
+    """(ones, node) for each step of the way with these bits: how many 1 it sends and where it leads."""
+    reach, taps, rows, _ = scheme
+    line = bits_of_room(scheme, node[1]) + list(bits)
+    found = []
+    for number in range(len(bits)):
+        phase = (node[0] + number) % len(rows)
+        ones = 0
+        for tap, chosen in zip(taps, rows[phase]):
+            backs = [back for back in range(reach + 1) if tap >> back & 1]
+            ones += chosen * (sum(line[number + reach - back] for back in backs) % 2)
+        found.append((ones, ((phase + 1) % len(rows), number_of(line[number + 1 : number + 1 + reach]))))
+    return found
+
+
+def paces(scheme):
+    """For each node its steps to nodes: (ones, node)."""
+    found = {}
+    for node in nodes_of(scheme):
+        steps = [walk(scheme, node, [bit])[0] for bit in (0, 1)]
+        found[node] = [(ones, led) for ones, led in steps if led[1] != 0]
+    return found
+
+
+def fewest_by_all_ways(scheme, node, steps):
+    found = []
+    for bits in itertools.product((0, 1), repeat=steps):
+        made = walk(scheme, node, bits)
+        if all(led[1] != 0 for _, led in made):
+            found.append(sum(ones for ones, _ in made))
+    return min(found)
+
+
+def depths(scheme):
+    """For each node the greatest number of quiet steps that lead from it, None where there is no end of them."""
+    leads = {node: [led for ones, led in steps if ones == 0] for node, steps in paces(scheme).items()}
+    found = {}
+    alive = set(leads)
+    # More quiet steps than there are nodes come to one node twice.
+    for number in range(len(leads) + 1):
+        found.update({node: number for node in alive})
+        alive = {node for node in alive if any(led in alive for led in leads[node])}
+    return {node: None if node in alive else found[node] for node in leads}
+
+
+def refused(case, refusal, ask, *asked):
+    with case.assertRaises(refusal) as caught:
+        ask(*asked)
+    case.assertIsInstance(caught.exception, WayError)
+    case.assertIsInstance(caught.exception, ValueError)
+    for other in (NoText, NoScheme, NoWord, NoSigns, NoPlace):
+        case.assertEqual(isinstance(caught.exception, other), other is refusal)

@@ -3,7 +3,7 @@ import unittest
 
 import reference
 from trellisway.costs import ahead, cost
-from trellisway.errors import NoPlace, NoScheme, NoSigns, NoText, NoWord, WayError
+from trellisway.errors import NoSigns, NoWord
 from trellisway.few import few
 from trellisway.nearest import nearest
 from trellisway.sending import sent
@@ -64,14 +64,6 @@ class Cost(unittest.TestCase):
 
 
 class Refusals(unittest.TestCase):
-    def refused(self, refusal, ask, *asked):
-        with self.assertRaises(refusal) as caught:
-            ask(*asked)
-        self.assertIsInstance(caught.exception, WayError)
-        self.assertIsInstance(caught.exception, ValueError)
-        for other in (NoText, NoScheme, NoWord, NoSigns, NoPlace):
-            self.assertEqual(isinstance(caught.exception, other), other is refusal)
-
     def test_other_than_as_many_signs_as_are_sent(self):
         for scheme in reference.schemes():
             for size in list(reference.sizes_of(scheme, 4)) + [60]:
@@ -79,22 +71,22 @@ class Refusals(unittest.TestCase):
                 for wrong in {0, count - 1, count + 1, 2 * count, 400} - {count, -1}:
                     for sign in (("clear", 1), ("gap",), ("soft", 3, -3)):
                         for ask in ASKS:
-                            self.refused(NoSigns, ask, scheme, size, [sign] * wrong)
+                            reference.refused(self, NoSigns, ask, scheme, size, [sign] * wrong)
 
     def test_short_words_in_a_ring_ahead_of_the_signs(self):
         for scheme in reference.schemes(endings=("ring",)):
             for size in range(scheme[0]):
                 for count in (0, 1, 2, size * len(scheme[1]), 40, 401):
                     for ask in ASKS:
-                        self.refused(NoWord, ask, scheme, size, [("clear", 1)] * count)
+                        reference.refused(self, NoWord, ask, scheme, size, [("clear", 1)] * count)
                     for start in range(1 << scheme[0]):
-                        self.refused(NoWord, ahead, scheme, size, [("gap",)] * count, start)
+                        reference.refused(self, NoWord, ahead, scheme, size, [("gap",)] * count, start)
 
     def test_each_start_in_a_ring_is_refused_alike(self):
         scheme = USUAL + ("ring",)
         for start in range(4):
-            self.refused(NoSigns, ahead, scheme, 3, [("gap",)] * 4, start)
-            self.refused(NoSigns, ahead, scheme, 3, [("gap",)] * 6, start)
+            reference.refused(self, NoSigns, ahead, scheme, 3, [("gap",)] * 4, start)
+            reference.refused(self, NoSigns, ahead, scheme, 3, [("gap",)] * 6, start)
 
     def test_as_many_as_are_sent_are_not_refused(self):
         for scheme in reference.schemes():

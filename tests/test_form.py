@@ -212,7 +212,42 @@ def faults(text):
     return found
 
 
+def defined_names(tree):
+    for node in tree.body:
+        if isinstance(node, (ast.FunctionDef, ast.ClassDef)):
+            yield node.name
+        elif isinstance(node, ast.Assign):
+            yield from (target.id for target in node.targets if isinstance(target, ast.Name))
+
+
+def import_faults(texts):
+    """Of texts by the names of their files: names that the file drawn from doesn't define, files drawn in a ring."""
+    trees = {name: ast.parse(text) for name, text in texts.items()}
+    drawn = {name: set() for name in texts}
+    for name, tree in trees.items():
+        for node in [part for part in tree.body if isinstance(part, ast.ImportFrom)]:
+            source = node.module.rpartition(".")[2]
+            drawn[name].add(source)
+            defined = set(defined_names(trees[source])) if source in trees else set()
+            strange = [part.name for part in node.names if part.name not in defined]
+            yield from (f"L16 {name} draws {one} from {source}" for one in strange)
+    left = set(drawn)
+    while any(not drawn[name] & left for name in left):
+        left = {name for name in left if drawn[name] & left}
+    yield from (f"L16 {name} is drawn from in a ring" for name in sorted(left))
+
+
 class Form(unittest.TestCase):
+    def test_imports(self):
+        texts = {path.stem: path.read_text(encoding="utf-8") for path in PACKAGE.glob("*.py")}
+        self.assertEqual(list(import_faults(texts)), [])
+
+    def test_faults_of_imports_are_seen(self):
+        one = "from trellisway.two import x\n\n\ndef y():\n    pass"
+        self.assertEqual(list(import_faults({"one": one, "two": "x = 1"})), [])
+        for two in ("from trellisway.three import x", "from trellisway.one import y\nx = 1", "z = 1"):
+            self.assertNotEqual(list(import_faults({"one": one, "two": two, "three": "x = 1"})), [])
+
     def test_files_of_the_package(self):
         files = [path for path in PACKAGE.iterdir() if path.name != "__pycache__"]
         self.assertIn("__init__.py", [path.name for path in files])

@@ -2,7 +2,7 @@ import copy
 import unittest
 
 import reference
-from trellisway.errors import NoPlace, NoScheme, NoSigns, NoText, NoWord, WayError
+from trellisway.errors import NoWord
 from trellisway.sending import bits_of, places_of, rooms_of, sent, steps_of
 
 USUAL = (2, (7, 5), ((1, 1), (1, 0)))
@@ -167,21 +167,14 @@ class Kinds(unittest.TestCase):
 
 
 class ShortWords(unittest.TestCase):
-    def refused(self, ask, *asked):
-        with self.assertRaises(NoWord) as caught:
-            ask(*asked)
-        self.assertIsInstance(caught.exception, WayError)
-        for other in (NoText, NoScheme, NoSigns, NoPlace):
-            self.assertNotIsInstance(caught.exception, other)
-
     def test_shorter_than_reach_in_a_ring(self):
         for scheme in reference.schemes(endings=("ring",)):
             for size in range(scheme[0]):
                 for word in reference.all_words(size):
                     for ask in OF_WORDS:
-                        self.refused(ask, scheme, word)
+                        reference.refused(self, NoWord, ask, scheme, word)
                 for ask in OF_SIZES:
-                    self.refused(ask, scheme, size)
+                    reference.refused(self, NoWord, ask, scheme, size)
 
     def test_of_reach_bits_it_is_not_refused(self):
         for scheme in reference.schemes():
