@@ -8,6 +8,7 @@ from trellisway.errors import NoPlace, NoScheme, NoSigns, NoText, NoWord, WayErr
 ENDINGS = ("open", "ended", "ring")
 REACHES = (0, 1, 2, 3, 4)
 SIXTY = int("9" * 60)
+NO_TEXTS = (0, 1, 7, -3, True, False, None, 1.5, [], ["0"], (), ("0",), {}, {"0": 1}, b"", b"0", object(), str)
 SIX_ROWS = ((1, 1, 1, 1), (0, 0, 0, 1), (0, 1, 1, 0), (1, 0, 0, 0), (0, 0, 0, 0), (0, 1, 0, 1))
 
 
@@ -16,7 +17,7 @@ def shapes_of(reach):
     end = 2 << reach
     return (
         ((end - 1,), ((1,),)),
-        ((end - 1, 1 + end // 2), ((1, 1), (1, 0))),
+        ((end - 1, 1 | end // 2), ((1, 1), (1, 0))),
         ((1, end // 2, end - 1), ((1, 0, 1), (0, 0, 0), (0, 1, 0))),
         ((end - 1, end // 3, 1, 0), SIX_ROWS),
         ((end - 1, 1), ((0, 0),)),
@@ -254,6 +255,59 @@ def depths(scheme):
         found.update({node: number for node in alive})
         alive = {node for node in alive if any(led in alive for led in leads[node])}
     return {node: None if node in alive else found[node] for node in leads}
+
+
+def rest_for(scheme, ones):
+    """The least number of steps that send so many 1 from each node, made longer step by step; ones from 1 on."""
+    if None in depths(scheme).values():
+        return None
+    leads = paces(scheme)
+    least = {node: 0 for node in leads}
+    steps = 0
+    while least and min(least.values()) < ones:
+        least = {node: min(sent + least[led] for sent, led in leads[node]) for node in leads}
+        steps += 1
+    return steps
+
+
+def parted(scheme, size, places, pause):
+    """Blocks: cut ahead of each place that has steps enough between its own step and that of the place ahead."""
+    numbers = [number for number, _ in sent_with_steps(scheme, [0] * size)]
+    cuts = []
+    for index, (place, later) in enumerate(zip(places, places[1:]), 1):
+        between = [number for number in range(300) if numbers[place] < number < numbers[later]]
+        if pause is not None and numbers[place] != numbers[later] and len(between) >= pause:
+            cuts.append(index)
+    edges = [0] + cuts + [len(places)]
+    return [places[first:end] for first, end in zip(edges, edges[1:]) if places]
+
+
+def distance(scheme, size):
+    """None for the length 0."""
+    if size <= 5:
+        return distance_by_pairs(scheme, size)[0] if size else None
+    return next_words(scheme, size, [("clear", 0)] * sent_count(scheme, size), 2)[1][0]
+
+
+def mended(scheme, size, wrong, gaps, apart):
+    """(e, pause, blocks) by a search over e, some further than can be of use; apart the distance, None for none."""
+    if apart == 0:
+        return None
+    for bound in range(len(wrong) + 3):
+        pause = rest_for(scheme, 2 * bound + 1) if scheme[3] == "ended" else None
+        found = parted(scheme, size, sorted(wrong + gaps), pause)
+        weights = [sum(2 if place in wrong else 1 for place in block) for block in found]
+        few = all(sum(place in wrong for place in block) <= bound for block in found)
+        if few and (apart is None or all(weight < apart for weight in weights)):
+            return bound, pause, found
+    return None
+
+
+def heard_with(scheme, word, wrong, gaps):
+    """What is heard of a word: clearly, with the other bit at the wrong places, and with gaps."""
+    signs = [sign for _, sign in sent_with_steps(scheme, word)]
+    heard = [("clear", 1 - sign if place in wrong else sign) for place, sign in enumerate(signs)]
+    return [("gap",) if place in gaps else told for place, told in enumerate(heard)]
 
 
 def refused(case, refusal, ask, *asked):
